@@ -1,0 +1,1 @@
+"""Daywatches: watches on one day in so many, for all days."""

@@ -1,0 +1,11 @@
+"""The bounds of the package."""
+
+MAX_TURN = 10 ** 12
+MAX_WATCHES = 10
+MAX_LITTLE = 60
+MAX_SMALL = 6
+MAX_SEEN = 8
+MAX_ROUND = 2520
+MAX_EDITS = 30
+BATCH = 12
+HISTORY = 10

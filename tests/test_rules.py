@@ -1,0 +1,84 @@
+"""Those rules of ../shared/LANGUAGE.md that a few lines can check, for every file of the package."""
+
+import ast
+import builtins
+import pathlib
+import re
+import unittest
+
+FOLDER = pathlib.Path(__file__).resolve().parent.parent / "daywatches"
+FILES = sorted(FOLDER.glob("*.py"))
+LIBRARY = {
+    "math": {"gcd", "lcm", "isqrt", "comb", "perm", "factorial"},
+    "itertools": {
+        "product", "combinations", "permutations", "chain", "accumulate", "pairwise", "islice", "zip_longest",
+    },
+}
+
+
+def bound_names(tree):
+    """The names that a file gives to functions, classes, parameters and variables."""
+    for node in ast.walk(tree):
+        if isinstance(node, (ast.FunctionDef, ast.ClassDef)):
+            yield node.name
+        elif isinstance(node, ast.arg):
+            yield node.arg
+        elif isinstance(node, ast.Name) and isinstance(node.ctx, ast.Store):
+            yield node.id
+
+
+def trees():
+    """The files of the package, parsed."""
+    return [ast.parse(path.read_text("ascii"), path.name) for path in FILES]
+
+
+class RulesTest(unittest.TestCase):
+    def test_the_folder_holds_sources_only(self):
+        self.assertIn(FOLDER / "__init__.py", FILES)
+        for path in FOLDER.iterdir():
+            if path.name != "__pycache__":
+                self.assertRegex(path.name, r"\A[a-z0-9_]+\.py\Z")
+
+    def test_lines_and_characters(self):
+        for path in FILES:
+            with self.subTest(path.name):
+                text = path.read_bytes().decode("ascii")
+                self.assertLessEqual(len(text.splitlines()), 399)
+                self.assertLessEqual(max(map(len, text.splitlines())), 120)
+                self.assertIsNone(re.search(r"[^\n -~]", text))
+
+    def test_functions_are_short(self):
+        for tree in trees():
+            for node in ast.walk(tree):
+                if isinstance(node, ast.FunctionDef):
+                    self.assertLessEqual(node.end_lineno - node.lineno + 1, 40, node.name)
+
+    def test_imports(self):
+        for tree in trees():
+            self.assertFalse([node for node in ast.walk(tree) if isinstance(node, ast.Import)])
+            for node in ast.walk(tree):
+                if not isinstance(node, ast.ImportFrom):
+                    continue
+                self.assertIn(node, tree.body)
+                self.assertEqual(node.level, 0)
+                names = {alias.name for alias in node.names}
+                if node.module in LIBRARY:
+                    self.assertLessEqual(names, LIBRARY[node.module])
+                else:
+                    self.assertRegex(node.module, r"\Adaywatches\.[a-z_]+\Z")
+                self.assertFalse([alias for alias in node.names if alias.asname])
+
+    def test_no_name_is_a_builtin(self):
+        for tree in trees():
+            for name in bound_names(tree):
+                self.assertNotIn(name, dir(builtins))
+
+    def test_no_floats(self):
+        for tree in trees():
+            for node in ast.walk(tree):
+                self.assertFalse(isinstance(node, ast.Constant) and isinstance(node.value, (float, complex)))
+                self.assertNotIsInstance(node, ast.Div)
+
+
+if __name__ == "__main__":
+    unittest.main()
