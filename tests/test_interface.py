@@ -11,6 +11,36 @@ FUNCTIONS = {
         "round_of": ["lot"],
         "shares_sum": ["lot"],
     },
+    "texts": {
+        "lot_text": ["lot"],
+        "parse_lot": ["value"],
+    },
+    "days": {
+        "holders": ["lot", "day"],
+        "tally": ["lot", "day"],
+        "meeting": ["lot", "some"],
+        "next_held": ["lot", "day"],
+        "next_open": ["lot", "day"],
+        "held_at": ["lot", "day", "count"],
+        "open_at": ["lot", "day", "count"],
+        "counts": ["lot", "begin", "end"],
+        "day_shares": ["lot"],
+    },
+    "sums": {
+        "sums": ["lot"],
+        "sums_by": ["lot", "weights"],
+        "few_days": ["lot"],
+        "weights_error": ["lot", "value"],
+    },
+    "changes": {
+        "shifted": ["lot", "day"],
+        "mirrored": ["lot"],
+        "stretched": ["lot", "times"],
+        "seen": ["lot", "size", "rest"],
+        "together": ["one", "other"],
+        "crossed": ["one", "other"],
+        "is_little": ["lot"],
+    },
 }
 
 CLASSES = {
