@@ -1,22 +1,9 @@
 """Lots that are made of lots."""
 
 from daywatches.bounds import MAX_LITTLE, MAX_TURN, MAX_WATCHES
-from daywatches.errors import TooLong, TooMany
 from daywatches.forms import turns_of, watch
 from daywatches.joins import joined, solved, without_none
-
-
-def refuse_many(lot):
-    """Raise TooMany if there are more watches than a lot has."""
-    if len(lot) > MAX_WATCHES:
-        raise TooMany(MAX_WATCHES)
-
-
-def refuse_long(lot):
-    """Raise TooLong with the first turn that is longer than that of a watch."""
-    for turn in turns_of(lot):
-        if turn > MAX_TURN:
-            raise TooLong(turn)
+from daywatches.limits import refuse_long, refuse_many
 
 
 def shifted(lot, day):
@@ -32,7 +19,7 @@ def mirrored(lot):
 def stretched(lot, times):
     """The lot in which each watch holds just the days that it holds here, times so many."""
     longer = tuple([(turn * times, first * times) for turn, first in lot])
-    refuse_long(longer)
+    refuse_long(longer, MAX_TURN)
     return longer
 
 
@@ -44,15 +31,15 @@ def seen(lot, size, rest):
 def together(one, other):
     """The watches of one, followed by those of other."""
     both = one + other
-    refuse_many(both)
+    refuse_many(len(both), MAX_WATCHES)
     return both
 
 
 def crossed(one, other):
     """The watches of the days that a watch of one and a watch of other both hold, for each two that meet."""
     met = tuple(without_none([joined(mine, yours) for mine in one for yours in other]))
-    refuse_many(met)
-    refuse_long(met)
+    refuse_many(len(met), MAX_WATCHES)
+    refuse_long(met, MAX_TURN)
     return met
 
 

@@ -16,6 +16,15 @@ def tally(lot, day):
     return len(holders(lot, day))
 
 
+def tallies(lot, begin, many):
+    """A list of the tallies of so many days in a row, from begin on."""
+    told = [0] * many
+    for turn, first in lot:
+        for place in range((first - begin) % turn, many, turn):
+            told[place] = told[place] + 1
+    return told
+
+
 def meeting(lot, some):
     """The pair (turn, first) of the days that all these watches hold, None if there are none."""
     held = (1, 0)
@@ -34,7 +43,7 @@ def next_held(lot, day):
 
 
 def enough_days(lot):
-    """So many days in a row are never all held if any day is open."""
+    """How many days in a row always decide for all days: 2 ** n for n watches."""
     return 1 << len(lot)
 
 

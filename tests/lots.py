@@ -61,6 +61,11 @@ def slow_tally(lot, day):
     return len(slow_holders(lot, day))
 
 
+def slow_tallies(lot, whole=None):
+    """The tallies of the days of a round, or of so many days, from 0 on."""
+    return [slow_tally(lot, day) for day in range(slow_round(lot) if whole is None else whole)]
+
+
 def slow_counts(lot, begin, end):
     """How many days of the stretch are held by just so many."""
     told = [0] * (len(lot) + 1)
@@ -76,6 +81,31 @@ def slow_day_at(lot, day, count, is_open):
         return None
     rounds, place = divmod(count - 1, len(places))
     return day + rounds * slow_round(lot) + places[place]
+
+
+def kept(lot, some):
+    """The lot of the watches with these indexes."""
+    return tuple(lot[index] for index in some)
+
+
+def slow_split(lot, index, parts):
+    """The lot with the watch split."""
+    turn, first = lot[index]
+    return lot[:index] + tuple((turn * parts, first + k * turn) for k in range(parts)) + lot[index + 1:]
+
+
+def grown_lots(many=60, most=MAX_WATCHES, greatest=MAX_TURN, seed=5):
+    """Grown lots with as many watches as fit, in any order, the same at each run."""
+    source = random.Random(seed)
+    lots = [((1, 0),)]
+    while len(lots) < many:
+        lot = ((1, 0),)
+        for _ in range(source.randint(1, 6)):
+            index, parts = source.randrange(len(lot)), source.choice([2, 2, 2, 3, 3, 4, 5, 6, 7, 10])
+            if len(lot) - 1 + parts <= most and lot[index][0] * parts <= greatest:
+                lot = slow_split(lot, index, parts)
+        lots.append(tuple(source.sample(lot, len(lot))))
+    return lots
 
 
 def choices(items):
