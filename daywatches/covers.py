@@ -2,7 +2,7 @@
 
 from daywatches.bounds import MAX_SMALL
 from daywatches.changes import seen
-from daywatches.days import enough_days, tallies
+from daywatches.days import enough_days, tallies_from
 from daywatches.errors import Open
 from daywatches.exacts import meet
 from daywatches.joins import joined
@@ -11,7 +11,7 @@ from daywatches.limits import refuse_many
 
 def few_tallies(lot):
     """The tallies of as many days from 0 on as decide for all days."""
-    return tallies(lot, 0, enough_days(lot))
+    return tallies_from(lot, 0, enough_days(lot))
 
 
 def open_day(lot, least):

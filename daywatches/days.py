@@ -16,7 +16,7 @@ def tally(lot, day):
     return len(holders(lot, day))
 
 
-def tallies(lot, begin, many):
+def tallies_from(lot, begin, many):
     """A list of the tallies of so many days in a row, from begin on."""
     told = [0] * many
     for turn, first in lot:

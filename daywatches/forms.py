@@ -4,10 +4,19 @@ from math import gcd, lcm
 
 from daywatches.bounds import MAX_TURN, MAX_WATCHES
 
+# The integers between -DAY_END and DAY_END are those of at most DAY_DIGITS digits.
+DAY_DIGITS = 18
+DAY_END = 10 ** 18
+
 
 def is_whole_number(value):
     """Whether value is an integer; True and False are none."""
     return isinstance(value, int) and not isinstance(value, bool)
+
+
+def is_day(value):
+    """Whether value is an integer of at most DAY_DIGITS digits."""
+    return is_whole_number(value) and -DAY_END < value < DAY_END
 
 
 def is_pair(value):

@@ -14,10 +14,10 @@ def lot_text(lot):
     return " ".join([f"{turn}:{first}" for turn, first in lot])
 
 
-def number_of(word):
-    """The integer from 0 on to MAX_TURN, or somewhat more, with this decimal; None if there is none."""
+def number_of(word, most):
+    """The integer from 0 on with this decimal of at most so many digits, None if there is none."""
     # isdigit also takes digits beyond ASCII, and int refuses very long words.
-    if not word.isascii() or not word.isdigit() or len(word) > len(str(MAX_TURN)):
+    if not word.isascii() or not word.isdigit() or len(word) > most:
         return None
     number = int(word)
     if str(number) != word:
@@ -28,7 +28,8 @@ def number_of(word):
 def watch_of(word):
     """The watch with this text, None if there is none."""
     turn_word, _, first_word = word.partition(":")
-    made = (number_of(turn_word), number_of(first_word))
+    most = len(str(MAX_TURN))
+    made = (number_of(turn_word, most), number_of(first_word, most))
     if watch_error(made) is not None:
         return None
     return made

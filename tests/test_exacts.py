@@ -14,7 +14,7 @@ from daywatches.exacts import (
 )
 from daywatches.forms import lot_error, shares_sum
 from tests.lots import (
-    COPRIME, DOUBLED, EDGES, HALVES, LAST_OPEN, LONG, NONE_OPEN, PRIMES, Clock, E, T, grown_lots, kept, slow_round,
+    COPRIME, DOUBLED, EDGES, HALVES, LAST_OPEN, LONG, NONE_OPEN, PRIMES, Clock, E, T, grown_lots, kept,
     slow_split, slow_tallies, slow_tally, small_lots,
 )
 

@@ -66,6 +66,20 @@ FUNCTIONS = {
         "least_breaches": ["lot"],
         "fewest_rest": ["lot"],
     },
+    "alikes": {
+        "fractions_of": ["lot"],
+        "alike": ["one", "other"],
+        "parting_day": ["one", "other"],
+        "told_back": ["tallies"],
+        "merged": ["lot"],
+        "is_merged": ["lot"],
+    },
+    "seeks": {
+        "closing": ["lot", "turns"],
+        "firsts_close": ["lot", "turns", "value"],
+        "exact_firsts": ["turns"],
+        "least_closing": ["lot", "turns"],
+    },
     "changes": {
         "shifted": ["lot", "day"],
         "mirrored": ["lot"],
@@ -78,6 +92,13 @@ FUNCTIONS = {
 }
 
 CLASSES = {
+    "boards": {
+        "Board": ["lot"],
+        "HeldBoard": ["lot"],
+    },
+    "shells": {
+        "Shell": ["board"],
+    },
     "errors": {
         "BadLot": ["error"],
         "BadText": ["place"],
@@ -91,6 +112,29 @@ CLASSES = {
         "TooLong": ["turn"],
         "TooMany": ["limit"],
     },
+}
+
+METHODS = {
+    ("boards", "Board"): {
+        "add": ["turn", "day"],
+        "drop": ["index"],
+        "move": ["index", "day"],
+        "split": ["index", "parts"],
+        "undo": [],
+        "at": ["version"],
+        "copy": [],
+        "attempt": ["batch", "on_step"],
+    },
+    ("shells", "Shell"): {
+        "say": ["line"],
+    },
+}
+
+SIGNS = ["__getitem__", "__len__", "__contains__", "__iter__", "__bool__", "__str__", "__eq__"]
+
+PROPERTIES = {
+    ("boards", "Board"): ["lot", "version"],
+    ("shells", "Shell"): ["board", "history"],
 }
 
 
@@ -120,6 +164,30 @@ class InterfaceTest(unittest.TestCase):
             for name, arguments in names.items():
                 with self.subTest(file=file, name=name):
                     self.assertTrue(inspect.isclass(self.check(file, name, arguments)))
+
+    def test_methods_stand_in_their_classes(self):
+        for (file, name), methods in METHODS.items():
+            for method, arguments in methods.items():
+                with self.subTest(file=file, name=name, method=method):
+                    own = vars(getattr(module(file), name))[method]
+                    self.assertTrue(inspect.isfunction(own))
+                    parameters = list(inspect.signature(own).parameters.values())
+                    self.assertEqual([parameter.name for parameter in parameters], ["self"] + arguments)
+                    for parameter in parameters:
+                        self.assertIs(parameter.kind, inspect.Parameter.POSITIONAL_OR_KEYWORD)
+                        self.assertIs(parameter.default, inspect.Parameter.empty)
+
+    def test_signs_of_boards(self):
+        for sign in SIGNS:
+            self.assertTrue(inspect.isfunction(vars(module("boards").Board)[sign]))
+
+    def test_properties_can_only_be_read(self):
+        for (file, name), properties in PROPERTIES.items():
+            for told in properties:
+                own = vars(getattr(module(file), name))[told]
+                self.assertIsInstance(own, property)
+                self.assertIsNone(own.fset)
+                self.assertIsNone(own.fdel)
 
 
 if __name__ == "__main__":
