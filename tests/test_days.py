@@ -259,6 +259,81 @@ class AtTest(unittest.TestCase):
         self.assertEqual(open_at(count=4, day=0, lot=TWO), 11)
 
 
+class LongAnswersTest(unittest.TestCase):
+    """Answers that take long to count are right if as many days ahead of them are open, or held, as counts tells."""
+
+    # All of these hold the day 10 ** 12, and within 10 ** 22 days of it no two hold another one.
+    ONE_DAY = tuple((10 ** 12 - k, k) for k in (0, 1, 3, 7, 9, 11, 17, 23, 27, 33))
+    DENSE = tuple((turn, turn // 3) for turn in (64, 67, 71, 73, 79, 81, 83, 85, 89, 91))
+    MIXED = ((2, 0), (3, 1), (5, 2), (7, 6), (64, 1)) + ONE_DAY[:5]
+
+    def check(self, lot, day, count):
+        told = open_at(lot, day, count)
+        if told is not None:
+            self.assertGreaterEqual(told, day)
+            self.assertEqual(slow_tally(lot, told), 0)
+            self.assertEqual(counts(lot, day, told)[0], count - 1)
+        else:
+            self.assertIsNone(next_open(lot, day))
+        told = held_at(lot, day, count)
+        if lot:
+            self.assertGreaterEqual(told, day)
+            self.assertGreater(slow_tally(lot, told), 0)
+            self.assertEqual(sum(counts(lot, day, told)[1:]), count - 1)
+        else:
+            self.assertIsNone(told)
+
+    def test_known_answers(self):
+        self.assertEqual(open_at(self.ONE_DAY, 5, 10 ** 18), 1000000000010000002)
+        self.assertEqual(open_at(self.ONE_DAY, 5, 1), 5)
+        # Up to the day that all hold each has held but its first day, and five of these lie ahead of day 10.
+        self.assertEqual(open_at(self.ONE_DAY, 10, 10 ** 12 - 10 - 5), 10 ** 12 - 1)
+        self.assertEqual(open_at(self.ONE_DAY, 10, 10 ** 12 - 10 - 4), 10 ** 12 + 1)
+        self.assertEqual([held_at(self.ONE_DAY, 10, 5), held_at(self.ONE_DAY, 10, 6)], [33, 10 ** 12])
+        self.assertEqual(held_at(self.ONE_DAY, 10, 7), 2 * 10 ** 12 - 33)
+
+    def test_days_and_counts_near_and_far(self):
+        for lot in (self.ONE_DAY, self.DENSE, self.MIXED, PRIMES, COPRIME, DOUBLED, LAST_OPEN, HALVES):
+            for day in (5, 10 ** 12, 10 ** 18 - 1, 1 - 10 ** 18):
+                for count in (1, 2, 500, 1025, 10 ** 6, 10 ** 12 + 7, 10 ** 18):
+                    self.check(lot, day, count)
+
+    def test_any_lots(self):
+        source = random.Random(110)
+        for number in range(150):
+            turns = [
+                range(1, 13), range(2, 200), range(10 ** 4, 10 ** 5), range(10 ** 6, 10 ** 9),
+                range(MAX_TURN - 50, MAX_TURN + 1), [2 ** k for k in range(39)], [1, 2, 3, 12, 60, 10 ** 6, MAX_TURN],
+            ][number % 7]
+            base = source.randrange(10 ** 13)
+            lot = []
+            for _ in range(source.randint(0, MAX_WATCHES)):
+                turn = source.choice(turns)
+                lot.append((turn, source.choice([base % turn, source.randrange(turn)])))
+            day = source.choice([0, source.randint(-99, 99), base, source.randint(1 - 10 ** 18, 10 ** 18 - 1)])
+            count = source.choice([1, 10, 1024, 10 ** 5, 10 ** 18, source.randint(1, 10 ** 18)])
+            self.check(tuple(lot), day, count)
+
+    def test_counts_that_follow_each_other(self):
+        for lot in (self.DENSE, self.MIXED, PRIMES, ((2, 0), (3, 1), (7, 6), (MAX_TURN, 5))):
+            for day in (0, -10 ** 17):
+                for count in (1, 1000, 10 ** 6, 10 ** 18 - 12):
+                    row = [open_at(lot, day, count + k) for k in range(12)]
+                    for one, other in zip(row, row[1:]):
+                        self.assertEqual(next_open(lot, one + 1), other)
+                    row = [held_at(lot, day, count + k) for k in range(12)]
+                    for one, other in zip(row, row[1:]):
+                        self.assertEqual(next_held(lot, one + 1), other)
+
+    def test_many_answers_in_a_short_time(self):
+        for lot in (self.ONE_DAY, self.DENSE, self.MIXED, PRIMES, COPRIME):
+            with self.subTest(lot), Clock(self):
+                for k in range(60):
+                    open_at(lot, k, 10 ** 18 - k)
+                    open_at(lot, 10 ** 18 - k, 1 + k)
+                    held_at(lot, k, 10 ** 18 - k)
+
+
 class CountsTest(unittest.TestCase):
     def test_day_by_day(self):
         source = random.Random(4)
