@@ -107,6 +107,7 @@ class Board:
 
     def refuse(self, lot):
         """Raise an error if the board may not have this lot; any lot will do here."""
+        pass
 
     def fresh(self):
         """A board of the same class with the same lot, without edits."""

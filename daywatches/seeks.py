@@ -30,7 +30,8 @@ def open_bits(lot, many):
 
 def can_hold(left, turns, many):
     """Whether watches with these turns hold enough of so many days for those that are left, by number alone."""
-    return f"{left:b}".count("1") <= sum([(many - 1) // turn + 1 for turn in turns])
+    bits = f"{left:b}"
+    return bits.count("1") <= sum([(many - 1) // turn + 1 for turn in turns])
 
 
 def unlike_places(items):

@@ -10,9 +10,14 @@ FOLDER = pathlib.Path(__file__).resolve().parent.parent / "daywatches"
 FILES = sorted(FOLDER.glob("*.py"))
 LIBRARY = {
     "math": {"gcd", "lcm", "isqrt", "comb", "perm", "factorial"},
-    "itertools": {
-        "product", "combinations", "permutations", "chain", "accumulate", "pairwise", "islice", "zip_longest",
-    },
+    # The others of this library are barred beside boards, which are iterated over and have a length.
+    "itertools": {"chain", "accumulate", "pairwise", "islice", "zip_longest"},
+}
+
+# Words that stand in no file, but for comments and docstrings.
+BARRED = {
+    "typing", "enum", "Enum", "Generic", "Protocol", "ABC", "namedtuple", "NamedTuple", "dataclass", "overload",
+    "contextmanager", "mro", "elements", "open", "input", "law", "register", "eval", "exec", "globals",
 }
 
 
@@ -72,6 +77,48 @@ class RulesTest(unittest.TestCase):
         for tree in trees():
             for name in bound_names(tree):
                 self.assertNotIn(name, dir(builtins))
+
+    def test_exponents(self):
+        for tree in trees():
+            for node in ast.walk(tree):
+                if isinstance(node, ast.BinOp) and isinstance(node.op, ast.Pow):
+                    self.assertIn(node.right.value, range(65))
+
+    def test_strings(self):
+        for tree in trees():
+            docs = {ast.get_docstring(node, False) for node in ast.walk(tree)
+                    if isinstance(node, (ast.Module, ast.ClassDef, ast.FunctionDef))}
+            for node in ast.walk(tree):
+                if isinstance(node, ast.Constant) and isinstance(node.value, str) and node.value not in docs:
+                    self.assertNotIn("%", node.value)
+                    self.assertFalse(node.value.startswith("__"))
+
+    def test_barred_names(self):
+        for tree in trees():
+            for node in ast.walk(tree):
+                for name in (getattr(node, "id", None), getattr(node, "attr", None), getattr(node, "arg", None),
+                             getattr(node, "name", None)):
+                    self.assertNotIn(name, BARRED)
+
+    def test_barred_statements(self):
+        barred = (
+            ast.Global, ast.Nonlocal, ast.AsyncFunctionDef, ast.Await, ast.AsyncFor, ast.AsyncWith, ast.Yield,
+            ast.YieldFrom, ast.GeneratorExp, ast.Set,
+        )
+        for tree in trees():
+            for node in ast.walk(tree):
+                self.assertNotIsInstance(node, barred)
+                if isinstance(node, ast.ExceptHandler):
+                    self.assertIn(node.type.id, {"WatchError"})
+                if isinstance(node, ast.Call) and isinstance(node.func, ast.Name) and node.func.id in ("any", "all"):
+                    self.assertNotIsInstance(node.args[0], ast.GeneratorExp)
+                if isinstance(node, ast.Call) and isinstance(node.func, ast.Attribute):
+                    self.assertNotIn(node.func.attr, {"sort", "format", "discard"})
+
+    def test_words_beside_getitem(self):
+        for path in FILES:
+            for word in ("(type)", "Meta", "metaclass="):
+                self.assertNotIn(word, path.read_text("ascii"))
 
     def test_no_floats(self):
         for tree in trees():
